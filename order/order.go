@@ -1,7 +1,11 @@
-// Package order turns rows into texts that are ordered, byte by byte, as the rows are by keys.
+// Package order holds rows against each other by keys, and turns them into
+// texts that are ordered, byte by byte, as the rows are.
 package order
 
-import "spillway/api"
+import (
+	"spillway/api"
+	"spillway/words"
+)
 
 // The first byte of each value's text keeps Nulls apart from all others, so
 // that Down can turn the rest round and leave the Nulls where Last wants them.
@@ -64,11 +68,7 @@ func appendPresent(text []byte, v api.Value) []byte {
 // appendInt puts the high bytes first, and turns the sign's bit so that
 // numbers below 0 come ahead of the others.
 func appendInt(text []byte, n int) []byte {
-	word := uint64(int64(n)) ^ 1<<63
-	for shift := 56; shift >= 0; shift -= 8 {
-		text = append(text, byte(word>>shift))
-	}
-	return text
+	return words.Append(text, uint64(n)^1<<63)
 }
 
 func appendText(text []byte, s string) []byte {
