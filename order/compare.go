@@ -12,16 +12,17 @@ import (
 // memory, as the texts of Encode would.
 func Compare(a, b api.Row, keys []api.Key) int {
 	for _, key := range keys {
-		if way := compareValues(a[key.Col], b[key.Col], key); way != 0 {
+		if way := CompareValues(a[key.Col], b[key.Col], key); way != 0 {
 			return way
 		}
 	}
 	return 0
 }
 
-// compareValues need not ask for the kind of two that are not Null: what a
-// kind does not have is alike in both.
-func compareValues(a, b api.Value, key api.Key) int {
+// CompareValues is the same of two values of one kind, or Null; the key's column
+// does not matter. It need not ask for the kind of two that are not Null: what
+// a kind does not have is alike in both.
+func CompareValues(a, b api.Value, key api.Key) int {
 	way, back := 0, key.Down
 	if a.Kind == api.Null || b.Kind == api.Null {
 		way, back = cmp.Compare(a.Kind, b.Kind), key.Last

@@ -2,9 +2,8 @@ package promises
 
 import (
 	"fmt"
-	"math/rand"
+	"math/big"
 	"slices"
-	"strings"
 	"testing"
 
 	"spillway/api"
@@ -29,47 +28,180 @@ func volumeOf(rows []api.Row) int {
 	return volume
 }
 
+// modelResult is what a node gives: so many columns, all rows, and whether a
+// total is no int.
+type modelResult struct {
+	cols     int
+	rows     []api.Row
+	overflow bool
+}
+
 // model answers a plan with all rows in memory: the answer, and how many
 // blocks are room enough.
 func model(tables []api.Table, plan []api.Node, c api.Config) ([]api.Row, api.Errno, int) {
-	results, room := [][]api.Row{}, 0
+	results, room := []modelResult{}, 0
 	for _, n := range plan {
-		rows := modelNode(tables, n, results)
-		many := len(rows) > api.MaxRows
+		result := modelNode(tables, n, results)
+		many := len(result.rows) > api.MaxRows
 		if many {
-			rows = rows[:api.MaxRows+1]
+			result.rows = result.rows[:api.MaxRows+1]
 		}
 		payload := c.Block - 16
-		room += 8 + (8*volumeOf(rows)+payload-1)/payload
-		large := slices.ContainsFunc(rows, func(r api.Row) bool { return sizeOf(r) > payload })
+		room += 8 + (8*volumeOf(result.rows)+payload-1)/payload
+		large := slices.ContainsFunc(result.rows, func(r api.Row) bool { return sizeOf(r) > payload })
 		switch {
 		case many:
 			return nil, api.ErrMany, room
+		case result.overflow:
+			return nil, api.ErrOverflow, room
 		case large:
 			return nil, api.ErrRow, room
 		}
-		results = append(results, rows)
+		results = append(results, result)
 	}
-	return results[len(plan)-1], api.OK, room
+	return results[len(plan)-1].rows, api.OK, room
 }
 
-func modelNode(tables []api.Table, n api.Node, results [][]api.Row) []api.Row {
-	switch n.Op {
-	case api.Scan:
-		return tables[slices.IndexFunc(tables, func(t api.Table) bool { return t.Name == n.Table })].Rows
-	case api.Sort:
-		return modelSort(results[n.Left], n.Keys)
-	case api.Top:
-		rows := modelSort(results[n.Left], n.Keys)
-		return rows[:min(n.Count, len(rows))]
+func modelNode(tables []api.Table, n api.Node, results []modelResult) modelResult {
+	if n.Op == api.Scan {
+		table := tables[slices.IndexFunc(tables, func(t api.Table) bool { return t.Name == n.Table })]
+		return modelResult{cols: len(table.Kinds), rows: table.Rows}
 	}
-	panic("no such operation")
+	left, right := results[n.Left], results[n.Right]
+	switch n.Op {
+	case api.Sort:
+		return modelResult{cols: left.cols, rows: modelSort(left.rows, n.Keys)}
+	case api.Top:
+		rows := modelSort(left.rows, n.Keys)
+		return modelResult{cols: left.cols, rows: rows[:min(n.Count, len(rows))]}
+	case api.Distinct:
+		return modelDistinct(left)
+	case api.Group:
+		return modelGroup(left, n)
+	}
+	return modelJoin(left, right, n)
 }
 
 func modelSort(rows []api.Row, keys []api.Key) []api.Row {
 	rows = slices.Clone(rows)
 	slices.SortStableFunc(rows, func(a, b api.Row) int { return compareByKeys(a, b, keys) })
 	return rows
+}
+
+func keysOf(cols ...int) []api.Key {
+	var keys []api.Key
+	for _, col := range cols {
+		keys = append(keys, api.Key{Col: col})
+	}
+	return keys
+}
+
+func modelDistinct(left modelResult) modelResult {
+	var rows []api.Row
+	seen := map[string]int{}
+	for _, r := range left.rows {
+		if text := fmt.Sprintf("%#v", r); seen[text] == 0 {
+			seen[text]++
+			rows = append(rows, r)
+		}
+	}
+	cols := make([]int, left.cols)
+	for col := range cols {
+		cols[col] = col
+	}
+	return modelResult{cols: left.cols, rows: modelSort(rows, keysOf(cols...))}
+}
+
+// modelGroup finds the parts by their values' texts.
+func modelGroup(left modelResult, n api.Node) modelResult {
+	parts, names := map[string][]api.Row{}, []string{}
+	if len(n.Cols) == 0 {
+		parts[""], names = left.rows, []string{""}
+	} else {
+		for _, r := range modelSort(left.rows, keysOf(n.Cols...)) {
+			name := fmt.Sprintf("%#v", picked(r, n.Cols))
+			if parts[name] == nil {
+				names = append(names, name)
+			}
+			parts[name] = append(parts[name], r)
+		}
+	}
+	result := modelResult{cols: len(n.Cols) + len(n.Sums)}
+	for _, name := range names {
+		r := api.Row{}
+		if len(n.Cols) > 0 {
+			r = picked(parts[name][0], n.Cols)
+		}
+		for _, s := range n.Sums {
+			v, overflow := modelSum(parts[name], s)
+			r, result.overflow = append(r, v), result.overflow || overflow
+		}
+		result.rows = append(result.rows, r)
+	}
+	return result
+}
+
+func picked(r api.Row, cols []int) api.Row {
+	out := api.Row{}
+	for _, col := range cols {
+		out = append(out, r[col])
+	}
+	return out
+}
+
+func modelSum(part []api.Row, s api.Sum) (api.Value, bool) {
+	if s.Op == api.Count {
+		return value(len(part)), false
+	}
+	var values []api.Row
+	for _, r := range modelSort(part, keysOf(s.Col)) {
+		if r[s.Col].Kind != api.Null {
+			values = append(values, r)
+		}
+	}
+	switch {
+	case len(values) == 0:
+		return value(nil), false
+	case s.Op == api.Least:
+		return values[0][s.Col], false
+	case s.Op == api.Greatest:
+		return values[len(values)-1][s.Col], false
+	}
+	sum := new(big.Int)
+	for _, r := range values {
+		sum.Add(sum, big.NewInt(int64(r[s.Col].N)))
+	}
+	return value(int(sum.Int64())), !sum.IsInt64()
+}
+
+// modelJoin holds each row against each other, until there are too many.
+func modelJoin(left, right modelResult, n api.Node) modelResult {
+	result := modelResult{cols: left.cols + right.cols}
+	for _, l := range modelSort(left.rows, keysOf(n.Cols...)) {
+		found := false
+		for _, r := range right.rows {
+			if modelMatches(l, r, n) {
+				found = true
+				result.rows = append(result.rows, slices.Concat(l, r))
+			}
+		}
+		if !found && n.Op == api.Outer {
+			result.rows = append(result.rows, slices.Concat(l, make(api.Row, right.cols)))
+		}
+		if len(result.rows) > api.MaxRows {
+			break
+		}
+	}
+	return result
+}
+
+func modelMatches(left, right api.Row, n api.Node) bool {
+	for i, col := range n.Cols {
+		if left[col].Kind == api.Null || left[col] != right[n.Others[i]] {
+			return false
+		}
+	}
+	return true
 }
 
 func sameRows(a, b []api.Row) bool {
@@ -131,81 +263,4 @@ func configs() []api.Config {
 		{Block: 64, Fan: 16, Budget: 256}, {Block: 64, Fan: 16, Budget: 64 * 40}, {Block: 65, Fan: 3, Budget: 65*4 + 1},
 		{Block: 128, Fan: 5, Budget: 128 * 7}, {Block: 4096, Fan: 16, Budget: 1 << 16}, {Block: 300, Fan: 2, Budget: 1<<63 - 1},
 	}
-}
-
-// tableOf is a table "t" of so many random rows, each of at most so many bytes.
-func tableOf(r *rand.Rand, kinds []int, rows, most int) api.Table {
-	table := api.Table{Name: "t", Kinds: kinds}
-	for range rows {
-		table.Rows = append(table.Rows, randomRow(r, kinds, most))
-	}
-	return table
-}
-
-func randomRow(r *rand.Rand, kinds []int, most int) api.Row {
-	out := make(api.Row, len(kinds))
-	spare := most - 8 - len(kinds)
-	for _, col := range r.Perm(len(kinds)) {
-		v := randomValue(r, kinds[col], spare)
-		out[col] = v
-		spare -= sizeOf(api.Row{v}) - 9
-	}
-	return out
-}
-
-func randomValue(r *rand.Rand, kind, spare int) api.Value {
-	switch {
-	case r.Intn(6) == 0:
-	case kind == api.Int && spare >= 8 && r.Intn(3) == 0:
-		return value(edgeInts()[r.Intn(len(edgeInts()))])
-	case kind == api.Int && spare >= 8:
-		return value(r.Intn(9) - 4)
-	case kind == api.Text && spare >= 2:
-		long := r.Intn(min(spare-2, api.MaxText) + 1)
-		return value(strings.Repeat(string([]byte{byte(r.Intn(4))}), r.Intn(long+1)))
-	case kind == api.Flag && spare >= 1:
-		return value(r.Intn(2) == 1)
-	}
-	return value(nil)
-}
-
-func randomKinds(r *rand.Rand) []int {
-	kinds := make([]int, 1+r.Intn(api.MaxCols))
-	for i := range kinds {
-		kinds[i] = api.Int + r.Intn(3)
-	}
-	return kinds
-}
-
-func randomKeys(r *rand.Rand, cols int) []api.Key {
-	keys := make([]api.Key, 1+r.Intn(api.MaxKeys))
-	for i := range keys {
-		keys[i] = api.Key{Col: r.Intn(cols), Down: r.Intn(2) == 0, Last: r.Intn(2) == 0}
-	}
-	return keys
-}
-
-// randomChain is a scan, and some sorts and tops over it.
-func randomChain(r *rand.Rand, cols int) []api.Node {
-	plan := []api.Node{scan("t")}
-	for range r.Intn(api.MaxDeep) {
-		if left := len(plan) - 1; r.Intn(3) == 0 {
-			plan = append(plan, top(left, r.Intn(api.MaxTop+1), randomKeys(r, cols)...))
-		} else {
-			plan = append(plan, sort(left, randomKeys(r, cols)...))
-		}
-	}
-	return plan
-}
-
-func randomConfig(r *rand.Rand) api.Config {
-	block := api.MinBlock + r.Intn(api.MaxBlock-api.MinBlock+1)
-	if r.Intn(2) == 0 {
-		block = api.MinBlock + r.Intn(100)
-	}
-	budget := 4 * block
-	if r.Intn(2) == 0 {
-		budget += r.Intn(20 * block)
-	}
-	return api.Config{Block: block, Fan: api.MinFan + r.Intn(api.MaxFan-api.MinFan+1), Budget: budget}
 }

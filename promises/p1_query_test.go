@@ -17,6 +17,9 @@ func queryPlans() [][]api.Node {
 	return [][]api.Node{
 		{scan("t")}, {scan("t"), sort(0, api.Key{Down: true})}, {scan("t"), top(0, 9, api.Key{Col: 1})},
 		{scan("t"), sort(0, api.Key{Col: 1}), sort(1, api.Key{Last: true})},
+		{scan("t"), distinct(0)}, {scan("t"), group(0, []int{1}, sum(api.Count, 0), sum(api.Total, 0))}, {scan("t"), group(0, nil, sum(api.Least, 1))},
+		{scan("t"), group(0, []int{0}), scan("t"), group(2, []int{0}, sum(api.Count, 0)), join(api.Join, 1, 3, []int{0}, []int{0})},
+		{scan("t"), scan("t"), group(1, []int{0}), join(api.Outer, 2, 0, []int{0, 0}, []int{0, 0}), sort(3, api.Key{Col: 1})},
 		{scan("t"), sort(0, api.Key{Col: 9})}, nil,
 	}
 }
@@ -67,7 +70,12 @@ func TestQueryRowsAreApart(t *testing.T) {
 	for i := range 40 {
 		table.Rows = append(table.Rows, shared[2*i:2*i+2], shared[:2])
 	}
-	for _, plan := range [][]api.Node{{scan("t")}, {scan("t"), sort(0, api.Key{})}, {scan("t"), top(0, 30, api.Key{})}} {
+	on := []int{0}
+	for _, plan := range [][]api.Node{
+		{scan("t")}, {scan("t"), sort(0, api.Key{})}, {scan("t"), top(0, 30, api.Key{})},
+		{scan("t"), scan("t"), join(api.Join, 0, 1, on, on)}, {scan("t"), scan("t"), join(api.Outer, 0, 1, on, on), sort(2, api.Key{})},
+		{scan("t"), scan("t"), top(1, 0, api.Key{}), join(api.Outer, 0, 2, on, on)},
+	} {
 		for _, c := range []api.Config{least(64), {Block: 64, Fan: 2, Budget: 1 << 20}} {
 			rows, _ := ask(t, "rows that share memory", []api.Table{table}, plan, c, bigDisk())
 			for i, r := range rows {
@@ -140,6 +148,10 @@ func TestQueryAnswersNothingElse(t *testing.T) {
 		kinds := randomKinds(h.Rand)
 		tables := []api.Table{tableOf(h.Rand, kinds, h.Intn(60), 48+h.Intn(200))}
 		plan, c, d := randomChain(h.Rand, len(kinds)), h.config(), h.disk()
+		if h.Intn(2) == 0 {
+			tables = randomTables(h.Rand, 60, 48+h.Intn(200))
+			plan = randomTree(h.Rand, tables)
+		}
 		rows, e := ask(t, "anything", tables, plan, c, d)
 		seen[e]++
 		if want, f := modelOf(tables, plan, c, d); e != f || !sameRows(rows, want) {
@@ -148,7 +160,7 @@ func TestQueryAnswersNothingElse(t *testing.T) {
 			}
 		}
 	}
-	for _, e := range []api.Errno{api.OK, api.ErrPlan, api.ErrBudget, api.ErrRow, api.ErrFull, api.ErrFail, api.ErrBroken} {
+	for _, e := range []api.Errno{api.OK, api.ErrPlan, api.ErrBudget, api.ErrRow, api.ErrOverflow, api.ErrFull, api.ErrFail, api.ErrBroken} {
 		if seen[e] == 0 {
 			t.Errorf("error %d was never seen: %v", e, fmt.Sprint(seen))
 		}

@@ -227,7 +227,7 @@ func (h hostile) table() api.Table {
 }
 
 func (h hostile) node() api.Node {
-	n := api.Node{Op: h.Intn(9), Left: h.near(), Table: []string{"", "t", "u"}[h.Intn(3)], Keys: h.keys(), Count: h.near(), Cols: h.list(), Others: h.list()}
+	n := api.Node{Op: h.Intn(9), Left: h.near(), Right: h.near(), Table: []string{"", "t", "u"}[h.Intn(3)], Keys: h.keys(), Count: h.near(), Cols: h.list(), Others: h.list()}
 	for range h.Intn(6) {
 		n.Sums = append(n.Sums, api.Sum{Op: h.near(), Col: h.near()})
 	}
@@ -262,7 +262,6 @@ func TestNoCallPanics(t *testing.T) {
 		}
 		for range h.Intn(16) {
 			n := h.node()
-			n.Right = h.near()
 			if h.Intn(8) > 0 {
 				n = lean(n)
 			}

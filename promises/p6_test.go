@@ -288,19 +288,3 @@ func TestQueryRandomPlans(t *testing.T) {
 		wantModel(t, "random rows", tables, randomChain(r, len(kinds)), c)
 	}
 }
-
-// TestQueryHangsOnNoConfiguration: P10, as far as it goes without joins.
-func TestQueryHangsOnNoConfiguration(t *testing.T) {
-	r := rand.New(rand.NewSource(10))
-	for range 20 {
-		kinds := randomKinds(r)
-		tables, plan := []api.Table{tableOf(r, kinds, 500, 48)}, randomChain(r, len(kinds))
-		first, e := ask(t, "the first", tables, plan, least(64), bigDisk())
-		for _, c := range configs() {
-			got, gotErrno := ask(t, "another", tables, plan, c, bigDisk())
-			if e != api.OK || gotErrno != api.OK || !sameRows(first, got) {
-				t.Errorf("P10: %+v: %d and %d, %d and %d rows", c, e, gotErrno, len(first), len(got))
-			}
-		}
-	}
-}

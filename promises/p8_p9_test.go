@@ -4,6 +4,7 @@ import (
 	"fmt"
 	"math"
 	"math/rand"
+	"slices"
 	"strings"
 	"testing"
 
@@ -39,15 +40,22 @@ func wantOthersKept(t *testing.T, why string, d *disk.Disk) {
 	}
 }
 
-// spilling has plans that write runs, and merge them, at the least budget.
+// spilling has plans that write runs, and merge them, at the least budget. All
+// of them scan the table "t" first.
 func spilling() ([]api.Table, [][]api.Node) {
 	r := rand.New(rand.NewSource(11))
-	kinds := []int{api.Int, api.Text, api.Flag}
-	down := api.Key{Down: true}
-	return []api.Table{tableOf(r, kinds, 90, 48)}, [][]api.Node{
+	other := tableOf(r, []int{api.Int, api.Int}, 60, 26)
+	other.Name = "u"
+	tables := []api.Table{tableOf(r, []int{api.Int, api.Text, api.Flag}, 90, 48), other}
+	down, on := api.Key{Down: true}, []int{0}
+	return tables, [][]api.Node{
 		{scan("t"), sort(0, api.Key{})},
 		{scan("t"), top(0, 20, api.Key{Col: 1})},
 		{scan("t"), sort(0, api.Key{Col: 1}), sort(1, down), top(2, 60, api.Key{Col: 2})},
+		{scan("t"), distinct(0)},
+		{scan("t"), group(0, []int{1, 0}), group(1, []int{1}, sum(api.Greatest, 0))},
+		{scan("t"), group(0, []int{0, 2}), scan("u"), join(api.Join, 1, 2, on, on)},
+		{scan("t"), group(0, []int{0, 2}), scan("u"), sort(2, down), join(api.Outer, 3, 1, on, on), distinct(4), group(5, []int{1}, sum(api.Count, 0))},
 	}
 }
 
@@ -109,8 +117,8 @@ func TestQueryOnASmallDisk(t *testing.T) {
 // TestQueryGivesBackWithEachError: P8, of P6's errors.
 func TestQueryGivesBackWithEachError(t *testing.T) {
 	tables, plans := spilling()
-	long := []api.Table{{Name: "t", Kinds: tables[0].Kinds, Rows: append(tables[0].Rows, row(nil, strings.Repeat("x", 99), nil))}}
-	many := []api.Table{{Name: "t", Kinds: tables[0].Kinds, Rows: make([]api.Row, api.MaxRows+1)}}
+	long := []api.Table{{Name: "t", Kinds: tables[0].Kinds, Rows: append(tables[0].Rows, row(nil, strings.Repeat("x", 99), nil))}, tables[1]}
+	many := []api.Table{{Name: "t", Kinds: tables[0].Kinds, Rows: make([]api.Row, api.MaxRows+1)}, tables[1]}
 	for i := range many[0].Rows {
 		many[0].Rows[i] = row(nil, nil, nil)
 	}
@@ -131,6 +139,36 @@ func TestQueryGivesBackWithEachError(t *testing.T) {
 			}
 			wantOthersKept(t, fmt.Sprint("error ", x.want), d)
 		}
+	}
+}
+
+// TestQueryGivesBackWhereANodeDecides: P8, of errors that come when much is on
+// the disk already; and with just room enough no other error comes.
+func TestQueryGivesBackWhereANodeDecides(t *testing.T) {
+	tables, plans := spilling()
+	tables = append(tables, faulty()...)
+	plan := plans[len(plans)-1]
+	c := least(64)
+	for _, b := range branches() {
+		whole := append(slices.Clone(plan), moved(b.nodes, len(plan))...)
+		whole = append(whole, join(api.Outer, len(plan)-1, len(whole)-1, []int{1}, []int{0}))
+		if len(whole) > api.MaxNodes {
+			whole = append(slices.Clone(plan[:4]), moved(b.nodes, 4)...)
+			whole = append(whole, join(api.Outer, 3, len(whole)-1, []int{0}, []int{0}))
+			whole[3] = join(api.Join, 1, 2, []int{0}, []int{0})
+		}
+		_, e, room := model(tables, whole, c)
+		if b.want != api.OK && e != b.want {
+			t.Fatalf("%s: the model says %d, want %d", b.why, e, b.want)
+		}
+		d := usedDisk(c.Block, room)
+		if _, got := ask(t, b.why, tables, whole, c, d); got != e {
+			t.Errorf("P7: %s: %d, want %d", b.why, got, e)
+		}
+		if d.Wrote() < 100 {
+			t.Errorf("%s: %d blocks are too few for this test", b.why, d.Wrote())
+		}
+		wantOthersKept(t, b.why, d)
 	}
 }
 
@@ -180,6 +218,32 @@ func TestQuerySpills(t *testing.T) {
 			for _, volume := range []int{c.Budget - 24, c.Budget, c.Budget + c.Block - 1, c.Budget + c.Block, c.Budget + 2*c.Block, 20 * c.Budget} {
 				n := (volume + 24) / 25
 				wantSpilled(t, fmt.Sprint(n, " rows, way ", way), orderly(n, way), c)
+			}
+		}
+	}
+}
+
+// TestAllOperationsSpill: what all of them take in and do not give at once is
+// written, as far as it does not fit into the budget.
+func TestAllOperationsSpill(t *testing.T) {
+	tables, on := two(keyed(400, func(i int) any { return -i }), keyed(300, func(i int) any { return -i - 200 })), []int{0}
+	left, right := volumeOf(tables[0].Rows), volumeOf(tables[1].Rows)
+	for _, c := range []api.Config{least(64), {Block: 64, Fan: 16, Budget: 1000}, least(500)} {
+		for _, x := range []struct {
+			why    string
+			plan   []api.Node
+			volume int
+		}{
+			{"distinct", []api.Node{scan("t"), distinct(0)}, left},
+			{"a group", []api.Node{scan("t"), group(0, on, sum(api.Count, 0))}, left},
+			{"a join", sides(api.Join, on, on), left + right},
+			{"an outer join", sides(api.Outer, on, on), left + right},
+			{"distinct, and a group", []api.Node{scan("t"), distinct(0), group(1, []int{1})}, 2*left - c.Budget},
+		} {
+			d := bigDisk()
+			_, e := ask(t, x.why, tables, x.plan, c, d)
+			if want := (x.volume - c.Budget) / c.Block; e != api.OK || d.Wrote() < want {
+				t.Errorf("P6: %s: %d, %d blocks were written, want %d (%+v)", x.why, e, d.Wrote(), want, c)
 			}
 		}
 	}

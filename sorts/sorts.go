@@ -11,7 +11,8 @@ import (
 	"spillway/runs"
 )
 
-// Sorter takes rows by Add, then End, and gives them by Next. It has files,
+// Sorter takes rows by Add, then End, and gives them by Next; or it takes them
+// by Add, and gives them, as often as is asked for, by EndInOne. It has files,
 // until Close.
 type Sorter struct {
 	shelf runs.Shelf
@@ -118,12 +119,16 @@ func (s *Sorter) End() {
 	if len(s.runs) == 0 {
 		return
 	}
+	s.spillAll()
+	s.mergeToFan()
+	s.merge = newMerge(s.runs, s.ahead)
+}
+
+func (s *Sorter) spillAll() {
 	for s.heap.Len() > 0 {
 		s.spill()
 	}
 	s.endRun()
-	s.mergeToFan()
-	s.merge = newMerge(s.runs, s.ahead)
 }
 
 // Next is the next row by the keys; false, if there is none.
